@@ -1,0 +1,1 @@
+"""Weather and upkeep: whether a park's rides may run."""
