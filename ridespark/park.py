@@ -1,28 +1,15 @@
 """The calls on one park, and what they answer."""
 
-from ridespark.calls import CALLS_WITH_TEXT, is_in_range, split_calls
+from ridespark.calls import is_in_range, split_calls, wants_park
 from ridespark.entries import CAME, CHECKED, FINISHED, FORCED, LEFT, LOCKED, ORDERED, RAN, READING, STAFFED, UNLOCKED
 from ridespark.entries import Entry
-from ridespark.plan import one_form, plan_sizes, read_plan
+from ridespark.plan import has_ride, one_form, plan_sizes, read_plan
+from ridespark.questions import FIRST_QUESTION, answer_question
 from ridespark.reasons import reasons_against
+from ridespark.refusals import ENTRIES_FULL, FINISHED_ALREADY, LOCK_ON_OR_OFF, MAY_NOT_RUN, NOT_HERE_OR_HERE
+from ridespark.refusals import NOT_TWO_OTHERS, NO_CHECK, NO_ORDER, NO_PARK, NO_RIDE, NO_SENSOR, OUT_OF_RANGE, PARK_TOLD
+from ridespark.refusals import TEXT_WRONG, TOO_MANY_ROUNDS, TO_COME
 from ridespark.upkeep import check_left, is_finished, is_gone, locks_on, rides_of_orders
-
-OUT_OF_RANGE = -1
-NO_PARK = -2
-PARK_TOLD = -3
-ENTRIES_FULL = -4
-NO_RIDE = -5
-NO_SENSOR = -6
-NO_CHECK = -7
-TO_COME = -8
-MAY_NOT_RUN = -9
-TOO_MANY_ROUNDS = -10
-NOT_HERE_OR_HERE = -11
-LOCK_ON_OR_OFF = -12
-TEXT_WRONG = -13
-NOT_TWO_OTHERS = -14
-NO_ORDER = -15
-FINISHED_ALREADY = -16
 
 MOST_ENTRIES = 250
 LAST_MINUTE = 1000000
@@ -42,10 +29,6 @@ def write_entry(park, kind, about, told=0, third=0, fourth=0):
     return [0, len(park.entries)]
 
 
-def has_ride(park, ride):
-    return ride <= len(park.plan.rides)
-
-
 def has_lock(park, ride, who):
     return who in locks_on(park.entries, ride)
 
@@ -53,7 +36,7 @@ def has_lock(park, ride, who):
 def tell_park(park, call):
     if park.plan is not None:
         return [PARK_TOLD]
-    plan = read_plan(call.text)
+    plan = read_plan(call.rows[0])
     if plan.wrong != 0:
         return [TEXT_WRONG]
     park.plan = plan
@@ -61,7 +44,7 @@ def tell_park(park, call):
 
 
 def check_text(park, call):
-    plan = read_plan(call.text)
+    plan = read_plan(call.rows[0])
     if plan.wrong != 0:
         return [0, 1, plan.wrong, plan.wrong_line]
     return [0, 0] + plan_sizes(plan)
@@ -100,7 +83,7 @@ def checks_let(park, ride, rounds):
 def run_ride(park, call):
     ride = call.numbers[0]
     rounds = call.numbers[1]
-    if not has_ride(park, ride):
+    if not has_ride(park.plan, ride):
         return [NO_RIDE]
     if len(reasons_against(park.plan, park.entries, ride, park.minute)) > 0:
         return [MAY_NOT_RUN]
@@ -122,7 +105,7 @@ def make_check(park, call):
 def put_lock_on(park, call):
     ride = call.numbers[0]
     who = call.numbers[1]
-    if not has_ride(park, ride):
+    if not has_ride(park.plan, ride):
         return [NO_RIDE]
     if is_gone(park.entries, who):
         return [NOT_HERE_OR_HERE]
@@ -134,7 +117,7 @@ def put_lock_on(park, call):
 def take_lock_off(park, call):
     ride = call.numbers[0]
     who = call.numbers[1]
-    if not has_ride(park, ride):
+    if not has_ride(park.plan, ride):
         return [NO_RIDE]
     if is_gone(park.entries, who):
         return [NOT_HERE_OR_HERE]
@@ -148,7 +131,7 @@ def force_lock_off(park, call):
     who = call.numbers[1]
     one = call.numbers[2]
     another = call.numbers[3]
-    if not has_ride(park, ride):
+    if not has_ride(park.plan, ride):
         return [NO_RIDE]
     if not is_gone(park.entries, who):
         return [NOT_HERE_OR_HERE]
@@ -162,7 +145,7 @@ def force_lock_off(park, call):
 
 def order_work(park, call):
     ride = call.numbers[0]
-    if not has_ride(park, ride):
+    if not has_ride(park.plan, ride):
         return [NO_RIDE]
     answer = write_entry(park, ORDERED, ride)
     if answer[0] == 0:
@@ -187,7 +170,7 @@ def finish_order(park, call):
 
 def tell_staff(park, call):
     ride = call.numbers[0]
-    if not has_ride(park, ride):
+    if not has_ride(park.plan, ride):
         return [NO_RIDE]
     return write_entry(park, STAFFED, ride, call.numbers[1])
 
@@ -200,7 +183,7 @@ def leave_or_come(park, call):
     return write_entry(park, LEFT if leaves else CAME, who)
 
 
-# By the calls' numbers.
+# By the calls' numbers; those behind them are questions.
 HANDLERS = (
     tell_park,
     check_text,
@@ -222,8 +205,10 @@ HANDLERS = (
 def answer_call(park, call):
     if not is_in_range(call):
         return [OUT_OF_RANGE]
-    if park.plan is None and call.number not in CALLS_WITH_TEXT:
+    if park.plan is None and wants_park(call):
         return [NO_PARK]
+    if call.number >= FIRST_QUESTION:
+        return answer_question(park, call)
     handler = HANDLERS[call.number]
     return handler(park, call)
 

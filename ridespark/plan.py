@@ -233,6 +233,10 @@ def read_plan(text):
     return plan
 
 
+def has_ride(plan, ride):
+    return ride <= len(plan.rides)
+
+
 def plan_sizes(plan):
     return [len(plan.sensors), len(plan.rides), len(plan.rules), len(plan.checks)]
 

@@ -1,7 +1,7 @@
 """Why a ride may not run, by some entries, at some minute."""
 
 from ridespark.upkeep import check_left, locks_on, orders_waiting, staff_of
-from ridespark.weather import is_shut, is_stale, readings_of
+from ridespark.weather import is_stale, readings_of, walk_rule
 
 SENSOR_STALE = 1
 RULE_SHUT = 2
@@ -19,7 +19,7 @@ def rule_reasons(plan, entries, ride, minute):
             readings = readings_of(entries, rule.sensor, minute)
             if is_stale(plan.sensors[rule.sensor - 1], readings, minute):
                 stale.append((SENSOR_STALE, number))
-            if is_shut(rule, readings):
+            if walk_rule(rule, readings).shut:
                 shut.append((RULE_SHUT, number))
     return stale + shut
 

@@ -2,6 +2,14 @@
 
 from ridespark.entries import READING
 
+NEVER = -1
+
+
+class Walked:
+    def __init__(self, shut, last_bad):
+        self.shut = shut
+        self.last_bad = last_bad
+
 
 # Pairs of minute and value. Sorting by the minute alone leaves those of one minute as they were written.
 def readings_of(entries, sensor, minute):
@@ -24,16 +32,17 @@ def is_fine(rule, value):
     return value >= rule.fine_level
 
 
-def is_shut(rule, readings):
+# last_bad is the minute of the last bad reading, or NEVER.
+def walk_rule(rule, readings):
     shut = True
-    last_bad = None
+    last_bad = NEVER
     for minute, value in readings:
         if is_bad(rule, value):
             shut = True
             last_bad = minute
-        elif is_fine(rule, value) and (last_bad is None or minute - last_bad >= rule.hold):
+        elif is_fine(rule, value) and (last_bad == NEVER or minute - last_bad >= rule.hold):
             shut = False
-    return shut
+    return Walked(shut, last_bad)
 
 
 def is_stale(sensor, readings, minute):

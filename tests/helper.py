@@ -3,6 +3,7 @@
 from ridespark.park import answers
 
 PRINT = [2]
+STATE = [23]
 SHUT = [-9]
 
 
@@ -66,6 +67,42 @@ def leave(who):
 
 def come(who):
     return [13, who, 0]
+
+
+def why(ride=1):
+    return [14, ride]
+
+
+def why_then(ride, minute, first):
+    return [15, ride, minute, first]
+
+
+def rule(number, minute, first=250):
+    return [16, number, minute, first]
+
+
+def due(ride=1):
+    return [17, ride]
+
+
+def locks(ride=1):
+    return [18, ride]
+
+
+def orders(ride=1):
+    return [19, ride]
+
+
+def open_rides(minute):
+    return [20, minute]
+
+
+def crew(skills, jobs):
+    return [21, len(skills), *skills, len(jobs), *jobs]
+
+
+def entry(number):
+    return [22, number]
 
 
 def joined(calls):

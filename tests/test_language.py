@@ -77,6 +77,60 @@ class LanguageTest(unittest.TestCase):
             self.assertTrue(free, f"these draw from one another: {sorted(left)}")
             left -= free
 
+    def is_plain(self, node, functions):
+        if isinstance(node, ast.UnaryOp):
+            return isinstance(node.op, ast.USub) and isinstance(node.operand, ast.Constant)
+        if isinstance(node, (ast.Tuple, ast.List)):
+            return all(self.is_plain(part, functions) for part in node.elts)
+        if isinstance(node, ast.Dict):
+            return all(self.is_plain(part, functions) for part in node.keys + node.values)
+        return isinstance(node, ast.Constant) or isinstance(node, ast.Name) and node.id in functions
+
+    def test_tops(self):
+        for path in FILES:
+            bound = []
+            functions = []
+            for node in ast.parse(path.read_text()).body:
+                where = f"{path.name}:{node.lineno}"
+                if isinstance(node, ast.Assign):
+                    self.assertTrue(self.is_plain(node.value, functions), where)
+                    bound.append(node.targets[0].id)
+                elif isinstance(node, ast.ImportFrom):
+                    bound += [name.name for name in node.names]
+                elif isinstance(node, (ast.FunctionDef, ast.ClassDef)):
+                    bound.append(node.name)
+                    functions += [node.name] if isinstance(node, ast.FunctionDef) else []
+                else:
+                    self.assertIsInstance(node.value, ast.Constant, where)
+            self.assertEqual(len(bound), len(set(bound)), path)
+
+    def test_what_a_file_binds_is_not_hidden(self):
+        for path in FILES:
+            tree = ast.parse(path.read_text())
+            bound = {name.name for node in tree.body if isinstance(node, ast.ImportFrom) for name in node.names}
+            bound |= {node.name for node in tree.body if isinstance(node, (ast.ClassDef, ast.FunctionDef))}
+            for node in ast.walk(tree):
+                if isinstance(node, ast.arg):
+                    self.assertNotIn(node.arg, bound, f"{path.name}:{node.lineno}")
+                if isinstance(node, ast.Name) and isinstance(node.ctx, ast.Store):
+                    self.assertNotIn(node.id, bound, f"{path.name}:{node.lineno}")
+
+    def test_imports_are_used_and_from_where_they_are_defined(self):
+        defined = {}
+        for path in FILES:
+            for node in ast.parse(path.read_text()).body:
+                names = [node.targets[0].id] if isinstance(node, ast.Assign) else []
+                names += [node.name] if isinstance(node, (ast.ClassDef, ast.FunctionDef)) else []
+                for name in names:
+                    defined[path.stem, name] = True
+        for path in FILES:
+            tree = ast.parse(path.read_text())
+            used = {node.id for node in ast.walk(tree) if isinstance(node, ast.Name)}
+            for node in tree.body:
+                for name in node.names if isinstance(node, ast.ImportFrom) else []:
+                    self.assertIn((node.module.rpartition(".")[2], name.name), defined, path)
+                    self.assertIn(name.name, used, path)
+
     def test_names(self):
         for where, node in self.nodes():
             if isinstance(node, ast.Name) and hasattr(builtins, node.id):
